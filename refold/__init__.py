@@ -1,0 +1,1 @@
+"""Refold: pages that are folded at widths again and again."""
