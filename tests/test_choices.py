@@ -128,6 +128,11 @@ class ChoicesTest(unittest.TestCase):
             self.assertEqual(choice_number(choice), number)
             before = choice
 
+    def test_numbers_are_integers(self):
+        for widths in ([], [3], [9, 7], [9, 8, 7]):
+            self.assertIs(type(count_choices(widths)), int)
+            self.assertIs(type(choice_number(widths)), int)
+
     def test_by_name(self):
         self.assertEqual(fewest(widths=[9, 8, 7]), [9, 7])
         self.assertEqual(count_choices(widths=[9, 7]), 2)
