@@ -58,3 +58,43 @@ def all_widths(most, limit):
         for many in range(most + 1)
         for widths in product(range(1, limit + 1), repeat=many)
     ]
+
+
+def all_falling(limit):
+    """All strictly descending lists of widths up to a limit."""
+    falling = range(limit, 0, -1)
+    return [
+        list(widths)
+        for many in range(limit + 1)
+        for widths in combinations(falling, many)
+    ]
+
+
+def slow_effects(limit):
+    """All effects of lists of widths up to a limit, in order."""
+    return sorted({tuple(slow_effect(widths)) for widths in all_falling(limit)})
+
+
+def slow_run(page, commands):
+    margin = 0
+    for name, *numbers in commands:
+        if name == "margin":
+            margin += numbers[0]
+        elif name == "fold":
+            page = slow_fold(page, [max(1, numbers[0] - margin)])
+        elif page:
+            page = [sum(page, [])]
+    return page, margin
+
+
+def slow_script_effect(commands):
+    names = [command[0] for command in commands]
+    start = len(names) - names[::-1].index("join") if "join" in names else 0
+    widths = []
+    for at in range(start, len(commands)):
+        if names[at] == "fold":
+            margin = sum(c[1] for c in commands[:at] if c[0] == "margin")
+            widths.append(max(1, commands[at][1] - margin))
+    found = slow_effect(widths)
+    margin = sum(c[1] for c in commands if c[0] == "margin")
+    return "join" in names and found != [2], found, margin

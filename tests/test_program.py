@@ -22,6 +22,21 @@ INTERFACE = {
         "nth_choice": ["widths", "number"],
         "choice_number": ["widths"],
     },
+    "refold.parting": {"parting_line": ["first", "second"]},
+    "refold.learning": {
+        "test_page": ["limit"],
+        "read_effect": ["limit", "folded"],
+    },
+    "refold.counting": {
+        "count_effects": ["limit"],
+        "effects": ["limit"],
+        "effect_number": ["limit", "widths"],
+    },
+    "refold.scripts": {
+        "run_script": ["page", "commands"],
+        "script_effect": ["commands"],
+        "repeated_effect": ["commands", "times"],
+    },
 }
 # The parts of Python's library that compute and do nothing else.
 LIBRARY = {"heapq", "math", "itertools", "collections", "__future__"}
