@@ -44,10 +44,16 @@ def is_word(string):
 
 
 def fold_page(page, width):
-    """Return a page whose lines are all folded at one width."""
+    """Return a page whose lines are all folded at one width.
+
+    Lines that fit are the very lines of the page that was passed.
+    """
     folded = []
     for line in page:
-        folded.extend(fold_line(line, width))
+        if length(line) <= width:
+            folded.append(line)
+        else:
+            folded.extend(fold_line(line, width))
     return folded
 
 

@@ -1,6 +1,10 @@
 """Slow versions of the document's words, to compare the program with."""
 
+import re
 from itertools import combinations, product
+
+PAGE_TEXT = re.compile(r"([a-z]+( [a-z]+)*(\n[a-z]+( [a-z]+)*)*)?")
+WIDTHS_TEXT = re.compile(r"none|[1-9][0-9]{0,39}( > [1-9][0-9]{0,39})*")
 
 
 def slow_length(line):
@@ -98,3 +102,65 @@ def slow_script_effect(commands):
     found = slow_effect(widths)
     margin = sum(c[1] for c in commands if c[0] == "margin")
     return "join" in names and found != [2], found, margin
+
+
+def numbers_of_lines(many):
+    """All lists of numbers from 1 on with a sum, in ascending order."""
+    if many == 0:
+        return [[]]
+    return [
+        [first] + rest
+        for first in range(1, many + 1)
+        for rest in numbers_of_lines(many - first)
+    ]
+
+
+def slow_join(page, numbers):
+    """The page whose lines consist of so many lines of a page each."""
+    ends = [sum(numbers[: k + 1]) for k in range(len(numbers))]
+    return [sum(page[end - n : end], []) for n, end in zip(numbers, ends)]
+
+
+def slow_numbers(page, widths):
+    """The numbers of lines of all origins, in order."""
+    return [
+        numbers
+        for numbers in numbers_of_lines(len(page))
+        if slow_fold(slow_join(page, numbers), widths) == page
+    ]
+
+
+def slow_count(page, widths):
+    """How many origins there are, also where they are too many to walk."""
+    many = len(page)
+    ways = [0] * many + [1]
+    for start in reversed(range(many)):
+        for end in range(start + 1, many + 1):
+            joined = [sum(page[start:end], [])]
+            if slow_fold(joined, widths) == page[start:end]:
+                ways[start] += ways[end]
+    return ways[0]
+
+
+def slow_sure(page, widths):
+    starts = [
+        {sum(numbers[:k]) for k in range(len(numbers))}
+        for numbers in slow_numbers(page, widths)
+    ]
+    if not starts:
+        return None
+    return [k for k in range(1, len(page)) if all(k in s for s in starts)]
+
+
+def page_of_text(text):
+    """The page of a text, or None."""
+    if PAGE_TEXT.fullmatch(text) is None:
+        return None
+    return [re.findall("[a-z]+", line) for line in text.split("\n") if line]
+
+
+def widths_of_text(text):
+    """The list of widths of a text, or None."""
+    if WIDTHS_TEXT.fullmatch(text) is None:
+        return None
+    return [int(number) for number in re.findall("[0-9]+", text)]

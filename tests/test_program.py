@@ -7,6 +7,8 @@ import inspect
 import unittest
 from pathlib import Path
 
+from refold.live import LivePage
+
 TOP = Path(__file__).resolve().parent.parent
 FILES = sorted((TOP / "refold").rglob("*.py"))
 INTERFACE = {
@@ -37,6 +39,13 @@ INTERFACE = {
         "script_effect": ["commands"],
         "repeated_effect": ["commands", "times"],
     },
+    "refold.origins": {
+        "count_origins": ["page", "widths"],
+        "origins": ["page", "widths"],
+        "sure_breaks": ["page", "widths"],
+    },
+    "refold.texts": {"show_page": ["page"], "show_widths": ["widths"]},
+    "refold.readings": {"read_page": ["text"], "read_widths": ["text"]},
 }
 # The parts of Python's library that compute and do nothing else.
 LIBRARY = {"heapq", "math", "itertools", "collections", "__future__"}
@@ -58,6 +67,25 @@ class InterfaceTest(unittest.TestCase):
                 for parameter in parameters:
                     self.assertIs(parameter.kind, parameter.POSITIONAL_OR_KEYWORD)
                     self.assertIs(parameter.default, parameter.empty)
+
+    def test_the_class_and_what_stands_in_it(self):
+        self.assertEqual(LivePage.__module__, "refold.live")
+        own = vars(LivePage)
+        for name in ("page", "widths", "effect"):
+            self.assertIsInstance(own[name], property)
+            self.assertIsNone(own[name].fset)
+        self.assertIsInstance(own["read"], classmethod)
+        for name, wanted in (
+            ("__init__", "(self, page)"),
+            ("__eq__", "(self, other)"),
+            ("fold", "(self, *widths)"),
+            ("undo", "(self)"),
+            ("lines", "(self)"),
+        ):
+            self.assertTrue(inspect.isfunction(own[name]), name)
+            self.assertEqual(str(inspect.signature(own[name])), wanted)
+        found = inspect.signature(LivePage.read)
+        self.assertEqual(str(found), "(text)")
 
 
 class MeansTest(unittest.TestCase):
